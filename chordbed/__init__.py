@@ -1,0 +1,1 @@
+"""Chordbed: a bed of keys, from wires to letters."""
