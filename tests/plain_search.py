@@ -1,4 +1,4 @@
-"""What the document says of frames and readings, searched for plainly.
+"""What the document says of frames, readings and bounces, searched for plainly.
 
 Nothing here draws from the package: it walks from wire to wire and goes through
 all sets of keys, so that the package's short ways can be held against it.
@@ -94,3 +94,13 @@ def chain_frame():
     for wire in (3, 0, 5, 1, 4, 2):
         spots += [(wire, wire), (wire, (wire + 1) % 6)]
     return (6, 6, tuple(spots))
+
+
+def plain_told(readings, bound):
+    """What [8] says, word by word: each turn looks back at all that was told."""
+    changes = []
+    for turn in range(len(readings)):
+        last = 1 if changes and changes[-1][1] == "down" else 0
+        if readings[turn] != last and (not changes or turn - changes[-1][0] >= bound):
+            changes.append((turn, "down" if readings[turn] == 1 else "up"))
+    return changes

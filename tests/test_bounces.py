@@ -4,16 +4,7 @@ import unittest
 from itertools import product
 
 from chordbed.bounces import told
-
-
-def plain_told(readings, bound):
-    """What [8] says, word by word: each turn looks back at all that was told."""
-    changes = []
-    for turn in range(len(readings)):
-        last = 1 if changes and changes[-1][1] == "down" else 0
-        if readings[turn] != last and (not changes or turn - changes[-1][0] >= bound):
-            changes.append((turn, "down" if readings[turn] == 1 else "up"))
-    return changes
+from tests.plain_search import plain_told
 
 
 class Told(unittest.TestCase):

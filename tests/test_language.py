@@ -1,223 +1,141 @@
-"""The package's form: those rules of ../shared/LANGUAGE.md that a walk over the code can hold.
-
-A rule that needs a reader (small functions, plain names, what a comment says) is left to the reader.
-"""
+"""The package's form: what tests/language_rules.py sees of ../shared/LANGUAGE.md in each file."""
 
 import ast
-import builtins
 import re
 import unittest
 from pathlib import Path
 
-PACKAGE = Path(__file__).resolve().parent.parent / "chordbed"
+from tests.language_rules import Package
 
-STATEMENTS = (
-    ast.Assign, ast.AugAssign, ast.AnnAssign, ast.If, ast.While, ast.For, ast.Return, ast.Break, ast.Continue,
-    ast.Pass, ast.Raise, ast.Try, ast.Expr, ast.FunctionDef, ast.ClassDef, ast.ImportFrom,
-)
-EXPRESSIONS = (
-    ast.Constant, ast.List, ast.Tuple, ast.Dict, ast.Set, ast.BinOp, ast.UnaryOp, ast.BoolOp, ast.Compare,
-    ast.IfExp, ast.Call, ast.Attribute, ast.Subscript, ast.Slice, ast.ListComp, ast.JoinedStr, ast.FormattedValue,
-    ast.Name, ast.Lambda,
-)
-BUILT_IN = set((
-    "len range enumerate zip min max sum abs sorted reversed int str bool list tuple dict set frozenset isinstance "
-    "ord repr any all divmod Exception ValueError TypeError KeyError IndexError LookupError ZeroDivisionError "
-    "ArithmeticError OverflowError RuntimeError NotImplementedError AttributeError StopIteration"
-).split())
-METHODS = set((
-    "append clear copy count endswith extend find get index insert isalnum isalpha isdigit islower isspace isupper "
-    "items join keys ljust lower lstrip partition pop remove replace reverse rfind rjust rpartition rsplit rstrip "
-    "setdefault split splitlines startswith strip update upper values zfill bit_length"
-).split())
-OWN_UNDERSCORES = ("__init__", "__eq__", "__repr__", "__str__", "__len__")
-FORBIDDEN_NAMES = set((
-    "register mro elements open input version_info with_traceback add_note attrgetter breakpoint builtins compile "
-    "copyright credits delattr dir eval exec exit gc getattr globals hasattr help id importlib license locals "
-    "methodcaller os quit setattr super type vars sys __name__ format format_map chr"
-).split())
-FORBIDDEN_WORDS = re.compile(
-    r"\b(type|typing|typing_extensions|enum|Enum|IntEnum|StrEnum|Flag|IntFlag|Generic|Protocol|ABC|ABCMeta|"
-    r"namedtuple|NamedTuple|TypedDict|TYPE_CHECKING|abstractmethod)\b|dataclass|overload|contextmanager"
-)
+FOLDER = Path(__file__).resolve().parent.parent / "chordbed"
 
 
-def faults_of_text(text):
-    """L10, L14, L17: what is seen in the signs alone."""
-    faults = []
-    lines = text.split("\n")
-    if len(lines) > 401:
-        faults.append("L10 more than 400 lines")
-    for number, line in enumerate(lines, start=1):
-        if len(line) > 120:
-            faults.append(f"L10 line {number} is long")
-        if any(not " " <= sign <= "~" for sign in line):
-            faults.append(f"L14 sign in line {number}")
-        if FORBIDDEN_WORDS.search(line):
-            faults.append(f"L17 word in line {number}")
-    return faults
-
-
-def faults_of_top(tree):
-    """L2, L3, L15, L16: the top of a file."""
-    faults = []
-    bound = []
-    for node in tree.body:
-        if isinstance(node, ast.ImportFrom):
-            if node.level or not (node.module or "").startswith("chordbed."):
-                faults.append(f"L2 import in line {node.lineno}")
-            bound += [alias.asname or alias.name for alias in node.names]
-        elif isinstance(node, (ast.FunctionDef, ast.ClassDef)):
-            bound.append(node.name)
-        elif isinstance(node, ast.Assign):
-            bound += [target.id for target in node.targets]
-        elif not (isinstance(node, ast.Expr) and isinstance(node.value, ast.Constant)):
-            faults.append(f"L3 line {node.lineno}")
-    if len(bound) != len(set(bound)):
-        faults.append("L15 a name is bound twice")
-    return faults
-
-
-def faults_of_def(node):
-    """L4, L5, L10, L15: a function or a class."""
-    faults = []
-    if node.decorator_list:
-        faults.append("L4 decorator")
-    if isinstance(node, ast.FunctionDef):
-        given = node.args
-        if given.vararg or given.kwarg or given.kwonlyargs or given.posonlyargs:
-            faults.append("L4 parameters")
-        faults += [f"L15 parameter {one.arg}" for one in given.args if hasattr(builtins, one.arg)]
-        if node.end_lineno - node.lineno >= 40:
-            faults.append("L10 more than 40 lines")
-    else:
-        if len(node.bases) > 1 or node.keywords:
-            faults.append("L5 bases")
-        for part in node.body:
-            if not isinstance(part, (ast.FunctionDef, ast.Expr, ast.Pass)):
-                faults.append("L5 body")
-    return [f"{fault}: {node.name}" for fault in faults]
-
-
-def faults_of_name(name, stored):
-    """L8, L12, L15, L17: a name where it stands."""
-    if name in FORBIDDEN_NAMES or name.startswith("_"):
-        return [f"L12, L17 name {name}"]
-    if hasattr(builtins, name) and (stored or name not in BUILT_IN):
-        return [f"L8 name {name}"]
-    return []
-
-
-def faults_of_attribute(node, own):
-    """L8, L17, L25: an attribute."""
-    name = node.attr
-    if name in FORBIDDEN_NAMES or (name.startswith("_") and name not in OWN_UNDERSCORES):
-        return [f"L17 attribute {name}"]
-    if name not in METHODS and name not in own and name not in OWN_UNDERSCORES:
-        return [f"L25 attribute {name}"]
-    return []
-
-
-def faults_of_operator(node):
-    """L7, L20, L27: operators and comparisons."""
-    faults = []
-    if isinstance(node, ast.BinOp) and isinstance(node.op, (ast.Div, ast.MatMult)):
-        faults.append("L7 operator")
-    if isinstance(node, ast.BinOp) and isinstance(node.op, ast.Pow) and not isinstance(node.right, ast.Constant):
-        faults.append("L27 power")
-    if isinstance(node, ast.Compare):
-        for operator, right in zip(node.ops, node.comparators):
-            if isinstance(operator, (ast.Is, ast.IsNot)) and ast.unparse(right) not in ("None", "True", "False"):
-                faults.append("L20 is")
-    return faults
-
-
-def faults_of_node(node, own):
-    """Whatever one node of the tree does against the rules."""
-    faults = []
-    if isinstance(node, ast.stmt) and not isinstance(node, STATEMENTS):
-        faults.append("L6 statement")
-    if isinstance(node, ast.expr) and not isinstance(node, EXPRESSIONS):
-        faults.append("L7 expression")
-    if isinstance(node, (ast.For, ast.While)) and node.orelse:
-        faults.append("L6 else behind a loop")
-    if isinstance(node, ast.Try) and node.finalbody:
-        faults.append("L6 finally")
-    if isinstance(node, ast.Assign) and len(node.targets) > 1:
-        faults.append("L6 targets")
-    if isinstance(node, ast.ListComp) and (len(node.generators) > 1 or len(node.generators[0].ifs) > 1):
-        faults.append("L7 comprehension")
-    if isinstance(node, ast.Constant) and isinstance(node.value, (float, complex, bytes)):
-        faults.append("L7 value")
-    if isinstance(node, ast.Constant) and isinstance(node.value, str) and chr(37) in node.value:
-        faults.append("L27 text")
-    if isinstance(node, (ast.FunctionDef, ast.ClassDef)):
-        faults += faults_of_def(node)
-    if isinstance(node, ast.Name):
-        faults += faults_of_name(node.id, isinstance(node.ctx, ast.Store))
-    if isinstance(node, ast.Attribute):
-        faults += faults_of_attribute(node, own)
-    faults += faults_of_operator(node)
-    return [f"{fault}, line {getattr(node, 'lineno', 0)}" for fault in faults]
-
-
-def own_names(trees):
-    """The methods and values of the package's own classes."""
-    names = set()
-    for tree in trees:
-        for node in ast.walk(tree):
-            if isinstance(node, ast.ClassDef):
-                names |= {part.name for part in node.body if isinstance(part, ast.FunctionDef)}
-            if isinstance(node, ast.Attribute) and isinstance(node.ctx, ast.Store):
-                names.add(node.attr)
-    return names
-
-
-def faults_of(text, own):
-    """All faults that are seen in one file."""
-    tree = ast.parse(text)
-    faults = faults_of_text(text) + faults_of_top(tree)
-    for node in ast.walk(tree):
-        faults += faults_of_node(node, own)
-    return faults
+def texts_of_package():
+    """The text of each file of the package, by its name."""
+    return {path.name: path.read_text(encoding="utf-8") for path in sorted(FOLDER.glob("*.py"))}
 
 
 class Language(unittest.TestCase):
 
     def test_the_folder_holds_python_files_alone(self):
-        for path in PACKAGE.iterdir():
-            if path.name != "__pycache__":
-                self.assertRegex(path.name, r"^(__init__|__main__|[a-z][a-z0-9_]*)\.py$")
+        names = [path.name for path in FOLDER.iterdir() if path.name != "__pycache__"]
+        self.assertEqual(sorted(names), sorted(texts_of_package()))
+        self.assertIn("__init__.py", names)
+        for path in FOLDER.iterdir():
+            self.assertTrue(path.is_file() or path.name == "__pycache__", path)
 
     def test_each_file_keeps_to_the_rules(self):
-        texts = {path.name: path.read_text(encoding="utf-8") for path in sorted(PACKAGE.glob("*.py"))}
-        own = own_names([ast.parse(text) for text in texts.values()])
-        for name, text in texts.items():
-            self.assertEqual(faults_of(text, own), [], name)
+        self.assertEqual(Package(texts_of_package()).faults(), [])
 
     def test_no_two_files_draw_from_one_another(self):
         draws = {}
-        for path in PACKAGE.glob("*.py"):
-            tree = ast.parse(path.read_text(encoding="utf-8"))
-            modules = [node.module for node in tree.body if isinstance(node, ast.ImportFrom)]
-            draws["chordbed." + path.stem] = [one for one in modules if one != "__future__"]
+        for name, text in texts_of_package().items():
+            modules = [node.module for node in ast.parse(text).body if isinstance(node, ast.ImportFrom)]
+            draws["chordbed." + name.rpartition(".")[0]] = [one for one in modules if one != "__future__"]
         while draws:
             free = [one for one in draws if not any(other in draws for other in draws[one])]
             self.assertTrue(free, draws)
             for one in free:
                 draws.pop(one)
 
+    def test_the_init_file_binds_nothing(self):
+        tree = ast.parse(texts_of_package()["__init__.py"])
+        self.assertEqual([type(node) for node in tree.body], [ast.Expr])
+
+
+def within(line):
+    """A function whose one line that is."""
+    return "def f(x):\n    " + line
+
+
+# Code that breaks a rule, with the rule's number.
+BAD = (
+    ("L2", "import os"), ("L2", "from .errors import NoFrame"), ("L2", "from math import gcd"),
+    ("L2", "from chordbed import errors"), ("L2", within("from chordbed.errors import NoFrame")),
+    ("L2", "X = 1\nfrom chordbed.errors import NoFrame"), ("L3", "print(1)"), ("L3", "X = 1 + 1"), ("L3", "X = []"),
+    ("L3", "if True:\n    pass"), ("L4", "def f(*xs):\n    pass"), ("L4", "def f(**xs):\n    pass"),
+    ("L4", "def f(*, x):\n    pass"), ("L4", "def f(x=[]):\n    pass"), ("L4", "def f(x):\n    return lambda *y: y"),
+    ("L4", "def g(x):\n    pass\n\n\n@g\ndef f(x):\n    pass"), ("L5", "class A:\n    x = 1"),
+    ("L5", "class A(list):\n    pass"), ("L5", "class A(ValueError, KeyError):\n    pass"),
+    ("L6", within("a = b = x")), ("L6", within("with x:\n        pass")), ("L6", within("assert x")),
+    ("L6", within("del x")), ("L6", within("x")), ("L6", within("for y in x:\n        pass\n    else:\n        pass")),
+    ("L6", within("try:\n        x()\n    finally:\n        x()")), ("L6", within("global y")),
+    ("L7", within("return x / 2")), ("L7", within("return {y for y in x}")), ("L7", within("return {y: y for y in x}")),
+    ("L7", within("return [*x]")), ("L7", within("return (y for y in x)")), ("L7", within("return (y := x)")),
+    ("L7", "X = 1.5"), ("L7", "X = b'a'"), ("L7", within("return [y for z in x for y in z]")),
+    ("L7", within("return f'{x.y}'")), ("L7", within("return f'{x:3}'")), ("L7", within("return {**x}")),
+    ("L7", within("return ...")), ("L8", within("return map(x)")), ("L8", within("print(x)")),
+    ("L8", "def filter(x):\n    pass"), ("L10", within("return " + "x + " * 40 + "x")),
+    ("L10", "def f(x):\n" + "    x = 1\n" * 40), ("L10", "# so\n" * 401), ("L12", "def f(_x):\n    pass"),
+    ("L12", within("_y = x")), ("L12", "def _f(x):\n    pass"), ("L13", within("return (lambda y: y, lambda y: x)")),
+    ("L14", "X = 'caf\u00e9'"), ("L14", "X =\t1"), ("L15", "X = 1\nX = 2"), ("L15", "def f(list):\n    pass"),
+    ("L15", within("min = x")), ("L15", "from chordbed.errors import NoBed\n\n\ndef f(NoBed):\n    pass"),
+    ("L15", within("class A:\n        pass")), ("L16", "from chordbed.texts import checked"),
+    ("L16", "from chordbed.errors import NoSuch"), ("L17", "# a type"), ("L17", within("return open(x)")),
+    ("L17", within("return x.f_back")), ("L17", within("return x.mro")), ("L17", "X = 'dataclasses'"),
+    ("L18", "class A:\n    pass\n\n\ndef f(x):\n    return [A]"), ("L18", within("return [x, ValueError]")),
+    ("L18", "class A:\n    def f(self):\n        pass\n\n    def f(self):\n        pass"),
+    ("L18", "class A:\n    def f(self):\n        pass\n\n\nclass B:\n    def __init__(self):\n        self.f = 1"),
+    ("L18", "class A(AttributeError):\n    pass"), ("L18", "X = 1\n\n\ndef f(x):\n    X.word = x"),
+    ("L19", within("try:\n        x()\n    except Exception:\n        pass")),
+    ("L19", within("try:\n        x()\n    except ValueError:\n        pass")),
+    ("L19", within("try:\n        x()\n    except:\n        pass")), ("L19", within("raise x")),
+    ("L19", within("raise ValueError(x)")), ("L20", within("return x is 'a'")), ("L21", "def f(x: int):\n    pass"),
+    ("L21", "def f(x) -> int:\n    pass"), ("L22", within("return [len]")),
+    ("L22", within("return sorted(x, key=list)")),
+    ("L22", within("return isinstance(x, set)")), ("L22", within("return int(x, base=2)")),
+    ("L22", within("return x.split(sep='a')")), ("L22", within("return sorted(x, reverse=x)")),
+    ("L23", within("return zip(x, x)")), ("L23", within("y = range(3)")), ("L23", within("return 1 in x.values()")),
+    ("L23", within("for y in x:\n        x.append(y)")), ("L23", within("for y in enumerate(x):\n        x[0] = y")),
+    ("L23", within("for y in x.items():\n        x.pop(y)")), ("L24", within("y = set(x)")),
+    ("L24", within("for y in set(x):\n        pass")), ("L24", within("return {1, 2}")),
+    ("L24", within("return sorted(set(x), reverse=True)")), ("L25", within("x.sort()")), ("L25", within("x.y()")),
+    ("L25", within("return x.append")), ("L26", "class A:\n    def sort(self):\n        pass"),
+    ("L26", "class A:\n    def __init__(self):\n        self.keys = 1"), ("L27", within("return 2 ** x")),
+    ("L27", within("return x ** 65")), ("L27", "X = '%'"), ("L27", "X = '\\r'"), ("L27", "X = '\\x41'"),
+    ("L27", within("x = \\\n        1")), ("L28", "class A:\n    def __init__(self):\n        return None"),
+    ("L28", "class A:\n    def __init__(self):\n        return 1"),
+)
+
+GOOD = (
+    within("return sorted(set(x) - set(x))"), within("return x in {1, 2, 3}"), within("return len(set(x)) == 3"),
+    within("return [y for y in zip(x, x[1:]) if y]"), within("return ', '.join(x.keys())"),
+    within("for y in list(x):\n        x.pop(y)"), within("return sorted(x, key=len, reverse=True)"),
+    within("return max([y for y in x], default=0)"), within("return x is None or isinstance(x, (int, str))"),
+    within("return f'{x} and {x!r}'"), within("y = x ** 2\n    y += 1\n    return -y"),
+    within("try:\n        return x[0]\n    except KeyError:\n        return None"), "X = (1, 'a', (None, -2))",
+    "class A(ValueError):\n    '''So.'''\n\n    def __init__(self, word):\n        ValueError.__init__(self, word)",
+    "from chordbed.errors import NoBed\n\n\ndef f(x):\n    raise NoBed(x, None)",
+)
+
+
+class TheWalkItself(unittest.TestCase):
+    """That the walk over the code sees what breaks a rule, and lets stand what breaks none."""
+
+    def faults(self, text):
+        """The faults of a package with one more file."""
+        texts = texts_of_package()
+        texts["one_more.py"] = text
+        package = Package(texts)
+        return package.faults_between_classes() + package.faults_of_file("one_more.py")
+
     def test_faults_are_seen(self):
-        bad = (
-            "import os", "from .errors import NoFrame", "X = 1\nX = 2", "print(1)", "def f(*xs):\n    pass",
-            "def f(list):\n    pass", "def f(x):\n    return x / 2", "def f(x):\n    return 2 ** x",
-            "def f(x):\n    return {y for y in x}", "def f(x):\n    return x is 'a'", "def f(x):\n    x.sort()",
-            "def f(x):\n    a = b = x", "class A:\n    x = 1", "def f(x):\n    with x:\n        pass",
-            "def f(x):\n    return chr(x)", "# a type", "X = 1.5", "def f(_x):\n    return _x",
-            "def f(x):\n    return " + "x + " * 40 + "x", "def f(x):\n" + "    x = 1\n" * 40,
-        )
-        for text in bad:
-            self.assertTrue(faults_of(text, set()), text)
+        for rule, text in BAD:
+            with self.subTest(rule=rule, text=text):
+                rules = [one for fault in self.faults(text) for one in re.findall(r"\bL[0-9]+\b", fault)]
+                self.assertIn(rule, rules)
+
+    def test_what_is_right_is_let_stand(self):
+        for text in GOOD:
+            with self.subTest(text=text):
+                self.assertEqual(self.faults(text), [])
+
+    def test_file_names(self):
+        wrong = ("Big.py", "test.py", "test_a.py", "site.py", "len.py", "filter.py", "typing.py", "a-b.py", "_a.py")
+        for name in wrong:
+            faults = Package({name: ""}).faults()
+            self.assertTrue(any(fault.startswith("L14") for name, fault in faults), name)
+        self.assertEqual(Package({"plain.py": "", "__init__.py": ""}).faults(), [])
 
 
 if __name__ == "__main__":
