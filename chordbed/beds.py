@@ -59,9 +59,14 @@ def check_chord(bed, place):
 
 def is_chord_set(bed, keys):
     """Whether these are two keys or more, rising, all of them letters on layer 0."""
-    if len(keys) < 2 or not all([one < other for one, other in zip(keys, keys[1:])]):
+    if len(keys) < 2 or not rises(keys):
         return False
     return all([0 <= key < bed[0] and bed[1][0][key][0] == "letter" for key in keys])
+
+
+def rises(keys):
+    """Whether each of these keys is greater than the one ahead of it."""
+    return all([one < other for one, other in zip(keys, keys[1:])])
 
 
 def is_letter(text):
