@@ -46,7 +46,7 @@ def read_chord(words):
     """The chord of a chord row's words; None where they aren't written so."""
     if len(words) != 3 or words[0] != "chord" or not is_letter(words[2]):
         return None
-    keys = all_read([read_number(word) for word in words[1].split("+")])
+    keys = read_parted(words[1], "+")
     if keys is None:
         return None
     return (keys, words[2])
@@ -74,6 +74,11 @@ def read_meaning(word):
     if is_letter(word[:1]) and word[1:2] == ">":
         return all_read(["tap", word[0], read_number(word[2:])])
     return None
+
+
+def read_parted(text, sign):
+    """The numbers that a text writes, parted by a sign; None where it isn't written so."""
+    return all_read([read_number(word) for word in text.split(sign)])
 
 
 def read_number(word):
